@@ -1,0 +1,1 @@
+"""tubewords: walks in webs of turning rooms."""
