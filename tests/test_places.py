@@ -1,8 +1,8 @@
 import unittest
 
 from tests.samples import (
-    ALL_WEBS, BOUND, BRIDGE, DOUBLING, EVEN, FULL, KLEIN, LONE, MIRROR, MOST, OTHER_KINDS, PAIR, STILL, TRIANGLE,
-    TURNING, WEBS, apart, back, ends, joined, last_room, led, place_by_words, places_up_to, plain_by_words, spoilt,
+    ALL_WEBS, BRIDGE, DOUBLING, EVEN, FULL, KLEIN, LONE, MIRROR, MOST, OTHER_KINDS, PAIR, STILL, TRIANGLE, TURNING,
+    WEBS, apart, back, ends, joined, last_room, led, place_by_words, places_up_to, plain_by_words, spoilt,
     to_place, walks_in, ways)
 from tubewords.errors import NotJoined, OutOfRange, TooMany
 from tubewords.places import is_place, led_place, neighbours, place_counts, place_of, place_room, walk_to

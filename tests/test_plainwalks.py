@@ -1,7 +1,7 @@
 import unittest
 
 from tests.samples import (
-    ALL_WEBS, BOUND, BRIDGE, DOUBLING, EVEN, FULL, KLEIN, LONE, MIRROR, MOST, STILL, TRIANGLE, TURNING, WEBS, ends,
+    ALL_WEBS, BOUND, BRIDGE, FULL, KLEIN, LONE, MIRROR, MOST, STILL, TRIANGLE, TURNING, WEBS, ends,
     is_plain_by_words, joined, last_room, numbers, plain_by_words, same, walks_in)
 from tubewords.errors import TooGreat
 from tubewords.plainwalks import are_equal, is_plain, plain_moves, plain_walk, reach_of

@@ -1,8 +1,8 @@
 import unittest
 
 from tests.samples import (
-    ALL_WEBS, BOUND, BRIDGE, DOUBLING, FULL, LONE, MOST, OTHER_KINDS, PIECES, STILL, TRIANGLE, TURNING, WEBS, back,
-    closed_in, joined, last_room, same, spoilt, walks_in)
+    ALL_WEBS, BOUND, BRIDGE, LONE, MOST, OTHER_KINDS, STILL, TRIANGLE, TURNING, WEBS, back, closed_in, joined,
+    last_room, same, spoilt, walks_in)
 from tubewords.errors import NotClosed, NotJoined, TooGreat, TooMany
 from tubewords.walks import end_room, is_closed, is_walk, joined_walk, opposite_walk, power_walk
 

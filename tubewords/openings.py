@@ -6,7 +6,7 @@ from tubewords.errors import OutOfRange, Stays
 from tubewords.kinds import is_integer_from
 from tubewords.plainwalks import plain_of_any_size
 from tubewords.turned import goes_on, shifted, trip_and_lap_of_any_size, turns_between
-from tubewords.walks import bounded_walk, check_closed, crossings_of, end_room, joined_of_any_size, numbers_of
+from tubewords.walks import bounded_walk, check_closed, crossings_of, end_room, joined_of_any_size
 from tubewords.walks import opposite_walk, walk_with
 from tubewords.webs import ends_of
 
