@@ -44,12 +44,6 @@ class ErrorsTest(unittest.TestCase):
                     for attribute, value in zip(attributes, values):
                         self.assertEqual(getattr(error, attribute), value)
 
-    def test_other_numbers_of_arguments_are_not_taken(self):
-        for name, attributes in ATTRIBUTES.items():
-            if attributes:
-                with self.subTest(name=name), self.assertRaises(TypeError):
-                    getattr(errors, name)(*attributes[1:])
-
     def test_they_can_be_raised_and_caught(self):
         for name, attributes in ATTRIBUTES.items():
             with self.subTest(name=name), self.assertRaises(errors.WebError):

@@ -87,6 +87,9 @@ class MovesTest(unittest.TestCase):
             self.refused(TURNING, walk, (("put", i, 0, 1, 0),))
         for i in (0, 1, 2):
             self.assertEqual(len(moved_walk(TURNING, walk, (("put", i, 0, 1, 0),))[2]), 4)
+        # A walk has no end that meets its beginning.
+        self.refused(TURNING, (0, 0, ((0, 1, 5), (0, -1, 0))), (("strike", 0),))
+        self.refused(TURNING, (0, 0, ((0, 1, 0), (0, -1, 0))), (("strike", 2),))
         self.refused(TURNING, (0, 5, ()), (("carry", 1, 0),))
         self.refused(TURNING, (0, 5, ()), (("strike", 1),))
         self.refused(TURNING, (0, 5, ((0, 1, 0),)), (("strike", 1),))

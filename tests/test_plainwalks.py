@@ -22,10 +22,10 @@ def moves_by_words(web, walk):
         m = (ks[kept] - ks[kept] % abs(ahead)) // ahead
         if m:
             moves.append(("carry", kept + 1, m))
-            walk = moved_walk(web, walk, moves[-1:])
+            walk = moved_walk(web, walk, (moves[-1],))
         if kept and numbers(walk)[kept] == 0 and walk[2][kept - 1][:2] == (t, -s):
             moves.append(("strike", kept))
-            walk = moved_walk(web, walk, moves[-1:])
+            walk = moved_walk(web, walk, (moves[-1],))
             kept -= 1
         else:
             kept += 1

@@ -168,6 +168,13 @@ class IsPlanTest(unittest.TestCase):
         self.no(POWERS, (0, (UP[1000], UP[10])), (0, up + (("line", 0, -1, 250),)))
         self.no(POWERS, (0, (UP[1000], DOWN[9])), (0, up + (("line", 0, -1, 334),)))
 
+    def test_tolls_far_beyond_the_bound(self):
+        for entry in (UP[1000], DOWN[1000], UP[-10], DOWN[-10]):
+            for side in (1, -1):
+                self.no(POWERS, (0, (entry,)), (0, (("line", 0, side, 1000),)))
+                self.no(POWERS, (0, (entry,) * 333), (0, (("line", 0, side, 1000),)))
+        self.no(TURNING, (0, (ON,)), (0, (("line", 0, 1, 700),)), (0, (("line", 1, 1, 1000),)))
+
     def test_other_kinds(self):
         for value in OTHER_KINDS + (0, "line", ((),), ((0,),), ((0, (), ()),), ((0, 0),), ((0, None),), ((0, "ab"),),
                                     (("0", ()),), ((0, ((),)),), ((0, (("cross",),)),), ((0, (("cross", 0),)),),

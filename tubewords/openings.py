@@ -93,6 +93,6 @@ def carrier_of_any_size(web, first, second, r, j):
     trip, lap = trip_and_lap_of_any_size(web, first)
     other_trip, other_lap = trip_and_lap_of_any_size(web, second)
     begun = (lap[0], lap[1], lap[2][:r])
-    turned = (end_room(web, begun), j, ())
+    between = (end_room(web, begun), j, ())
     back = (other_lap[0], -other_lap[1], ())
-    return plain_of_any_size(web, joined_of_any_size([trip, begun, turned, back, opposite_walk(web, other_trip)]))
+    return plain_of_any_size(web, joined_of_any_size([trip, begun, between, back, opposite_walk(web, other_trip)]))

@@ -1,8 +1,7 @@
-"""Tolls of crossings and of walks ([31])."""
+"""Tolls of crossings ([31])."""
 
 from math import gcd
 
-from tubewords.walks import crossings_of
 from tubewords.webs import ends_of
 
 
@@ -36,8 +35,3 @@ def toll_along(web, crossings):
     for tie, side in crossings:
         toll = tolls_joined(toll, crossing_toll(web, tie, side))
     return toll
-
-
-def toll_of(web, walk):
-    """The toll of a walk, and what it comes out as."""
-    return toll_along(web, crossings_of(walk))

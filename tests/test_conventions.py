@@ -1,0 +1,138 @@
+import copy
+import importlib
+import inspect
+import unittest
+
+from tests.samples import BRIDGE, EVEN, TURNING
+
+WALK = (0, 5, ((0, 1, 1), (0, -1, 4)))
+GOING = (0, 0, ((0, 1, 1), (0, 1, 0)))
+OTHER = (0, 0, ((0, 1, 0), (0, 1, 1)))
+BASE = (0, ())
+PLACE = (0, ((1, 0, 1),))
+PLAN = ((0, (("cross", 0, 1),)), (0, (("line", 0, -1, 2),)))
+
+# Each function of the interface with arguments that it takes.
+CALLS = {
+    "webs": {
+        "is_web": (TURNING,),
+        "piece_of": (BRIDGE, 1),
+        "pieces_of": (BRIDGE,),
+        "ends_of": (BRIDGE, 0, -1),
+        "ways_out": (TURNING, 0),
+    },
+    "walks": {
+        "is_walk": (TURNING, WALK),
+        "end_room": (TURNING, WALK),
+        "is_closed": (TURNING, WALK),
+        "joined_walk": (TURNING, WALK, GOING),
+        "opposite_walk": (TURNING, WALK),
+        "power_walk": (TURNING, WALK, -3),
+        "moved_walk": (TURNING, WALK, (("carry", 1, 2), ("put", 0, 0, 1, 3))),
+    },
+    "plainwalks": {
+        "is_plain": (TURNING, WALK),
+        "plain_walk": (TURNING, WALK),
+        "plain_moves": (TURNING, WALK),
+        "are_equal": (TURNING, WALK, GOING),
+        "reach_of": (TURNING, WALK),
+    },
+    "papers": {
+        "equality_paper": (TURNING, WALK, GOING),
+        "is_equality_paper": (TURNING, WALK, WALK, ("equal", ())),
+    },
+    "places": {
+        "is_place": (TURNING, PLACE),
+        "place_room": (TURNING, PLACE),
+        "place_of": (TURNING, WALK),
+        "walk_to": (TURNING, PLACE),
+        "led_place": (TURNING, WALK, PLACE),
+        "neighbours": (TURNING, PLACE),
+        "place_counts": (TURNING, 0, 5),
+    },
+    "distances": {
+        "distance_of": (TURNING, PLACE, BASE),
+        "way_between": (TURNING, PLACE, BASE),
+        "middle_of": (TURNING, PLACE, BASE, PLACE),
+    },
+    "keeping": {
+        "keeps_place": (TURNING, WALK, PLACE),
+        "kept_turns": (TURNING, (0, 6, ()), PLACE),
+        "keeping_walk": (TURNING, PLACE, 5),
+        "keeping_number": (TURNING, PLACE, BASE),
+        "kept_counts": (TURNING, 0, 4, 3),
+        "nearest_kept": (TURNING, WALK),
+        "line_places": (TURNING, GOING),
+    },
+    "turned": {
+        "is_turned": (TURNING, WALK),
+        "trip_and_lap": (TURNING, WALK),
+        "walk_length": (TURNING, WALK),
+        "goes_on": (TURNING, WALK),
+        "trip_steps": (TURNING, WALK),
+        "rotated_walk": (TURNING, WALK, 1),
+        "pace_of": (TURNING, WALK),
+    },
+    "openings": {
+        "opening_of": (EVEN, WALK, 1),
+        "opening_answers": (EVEN, GOING, OTHER),
+        "told_carrier": (EVEN, GOING, OTHER),
+    },
+    "plans": {
+        "is_plan": (TURNING, PLAN),
+        "plan_tolls": (TURNING, PLAN),
+        "plan_crossings": (TURNING, PLAN),
+    },
+    "turnorder": {
+        "primes_of": (BRIDGE, 1),
+        "turn_parts": (BRIDGE, 1, -60),
+        "comes_before": (BRIDGE, (0, 3), (1, 5)),
+    },
+}
+
+
+def functions():
+    for module, calls in CALLS.items():
+        for name, arguments in calls.items():
+            yield module, name, getattr(importlib.import_module("tubewords." + module), name), arguments
+
+
+class ConventionsTest(unittest.TestCase):
+    def test_functions_are_defined_in_their_files(self):
+        for module, name, function, arguments in functions():
+            with self.subTest(name=name):
+                self.assertTrue(inspect.isfunction(function))
+                self.assertEqual((function.__module__, function.__name__), ("tubewords." + module, name))
+
+    def test_arguments_are_passed_by_position(self):
+        for module, name, function, arguments in functions():
+            with self.subTest(name=name):
+                inspect.signature(function).bind(*arguments)
+
+    def test_equal_calls_return_equal_results_and_change_nothing(self):
+        first = {}
+        for module, name, function, arguments in functions():
+            kept = copy.deepcopy(arguments)
+            first[name] = function(*arguments)
+            self.assertEqual(arguments, kept)
+        for module, name, function, arguments in reversed(list(functions())):
+            with self.subTest(name=name):
+                self.assertEqual(function(*copy.deepcopy(arguments)), first[name])
+
+    def test_answers_are_true_or_false(self):
+        for name in ("is_web", "is_walk", "is_closed", "is_plain", "are_equal", "is_equality_paper", "is_place",
+                     "keeps_place", "is_turned", "goes_on", "is_plan", "comes_before"):
+            for module, other, function, arguments in functions():
+                if other == name:
+                    self.assertIsInstance(function(*arguments), bool)
+
+    def test_results_hold_no_other_kinds(self):
+        def check(value):
+            self.assertIn(type(value), (int, str, bool, tuple, type(None)))
+            if isinstance(value, tuple):
+                for part in value:
+                    check(part)
+
+        for module, name, function, arguments in functions():
+            with self.subTest(name=name):
+                check(function(*arguments))
