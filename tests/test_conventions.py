@@ -88,6 +88,34 @@ CALLS = {
         "turn_parts": (BRIDGE, 1, -60),
         "comes_before": (BRIDGE, (0, 3), (1, 5)),
     },
+    "turnrules": {
+        "told_rules": (BRIDGE, 0),
+        "least_turn": (BRIDGE, 1, 9),
+        "are_complete": (BRIDGE, 0, ((1, 3, 0, 2),)),
+        "brought_down": (BRIDGE, ((1, 3, 0, 2),), 1, 9),
+    },
+    "turnclasses": {
+        "turn_class": (BRIDGE, 1, 9),
+    },
+    "carryings": {
+        "are_carried": (EVEN, GOING, OTHER),
+        "carrying_paper": (TURNING, (0, 9, ()), (0, 4, ())),
+        "shows_carrying": (EVEN, GOING, OTHER, True, ("on", 1, 0)),
+    },
+    "shares": {
+        "share_of": (TURNING, WALK),
+        "toll_of": (TURNING, WALK),
+        "passed_turns": (TURNING, WALK, 6),
+    },
+    "sources": {
+        "first_way": (BRIDGE, 1, 0),
+        "rings_at": (TURNING, 0),
+        "sources_at": (BRIDGE, 0),
+    },
+    "cores": {
+        "core_of": (BRIDGE, 0),
+        "home_of": (BRIDGE, 0),
+    },
 }
 
 
@@ -121,7 +149,8 @@ class ConventionsTest(unittest.TestCase):
 
     def test_answers_are_true_or_false(self):
         for name in ("is_web", "is_walk", "is_closed", "is_plain", "are_equal", "is_equality_paper", "is_place",
-                     "keeps_place", "is_turned", "goes_on", "is_plan", "comes_before"):
+                     "keeps_place", "is_turned", "goes_on", "is_plan", "comes_before", "are_complete", "are_carried",
+                     "shows_carrying"):
             for module, other, function, arguments in functions():
                 if other == name:
                     self.assertIsInstance(function(*arguments), bool)

@@ -1,8 +1,49 @@
-"""Tolls of crossings ([31])."""
+"""Shares and tolls of walks, and turns that pass them ([31])."""
 
 from math import gcd
 
+from tubewords.walks import crossings_of
 from tubewords.webs import ends_of
+
+
+def share_of(web, walk):
+    """The share of a walk, a fraction."""
+    above, below = 1, 1
+    for tie, side in crossings_of(walk):
+        _, _, ahead, behind = ends_of(web, tie, side)
+        above *= behind
+        below *= ahead
+    return fraction_of(above, below)
+
+
+def fraction_of(above, below):
+    """The fraction of one integer over another one that is not 0, in lowest terms."""
+    common = gcd(above, below)
+    if below < 0:
+        common = -common
+    return (above // common, below // common)
+
+
+def toll_of(web, walk):
+    """The toll (M, K) of a walk."""
+    return toll_along(web, crossings_of(walk))
+
+
+def passed_turns(web, walk, turns):
+    """The number of turns as which turns come out behind a walk, None if they do not pass it."""
+    for tie, side in crossings_of(walk):
+        turns = turns_over(web, tie, side, turns)
+        if turns is None:
+            return None
+    return turns
+
+
+def turns_over(web, tie, side, turns):
+    """The number of turns as which turns come out behind one crossing, None if they do not pass it."""
+    _, _, ahead, behind = ends_of(web, tie, side)
+    if turns % ahead != 0:
+        return None
+    return turns // ahead * behind
 
 
 def crossing_toll(web, tie, side):

@@ -34,12 +34,17 @@ def turn_parts(web, room, turns):
     """The sign, the rest and the exponents of an integer that is not 0, for the primes of a room."""
     if turns == 0:
         raise OutOfRange(0)
+    return parts_for(primes_of(web, room), turns)
+
+
+def parts_for(primes, turns):
+    """The sign, the rest and the exponents of an integer that is not 0, for some primes."""
     sign = 1
     if turns < 0:
         sign = -1
     rest = abs(turns)
     exponents = []
-    for prime in primes_of(web, room):
+    for prime in primes:
         exponent = 0
         while rest % prime == 0:
             rest //= prime
@@ -54,12 +59,13 @@ def comes_before(web, first, second):
         raise OutOfRange(0)
     if second[0] not in piece_of(web, first[0]):
         raise NotInOne(second[0])
-    return order_of(web, first) < order_of(web, second)
+    primes = primes_of(web, first[0])
+    return order_for(primes, first) < order_for(primes, second)
 
 
-def order_of(web, turn):
-    """What is lesser for the turn that comes before, of turns of one piece that are not 0."""
+def order_for(primes, turn):
+    """What is lesser for the turn that comes before, of turns that are not 0 of one piece with these primes."""
     room, turns = turn
-    sign, rest, exponents = turn_parts(web, room, turns)
+    sign, rest, exponents = parts_for(primes, turns)
     lowered = tuple([-exponent for exponent in exponents])
     return (rest, sum(exponents), lowered, room, -sign)
