@@ -46,9 +46,20 @@ def opening_answers(web, first, second):
 
 def answer_of(web, opening, wanted):
     """The answer of an opening: the j with which it is carried into the wanted one."""
+    row = fitting_row(web, opening, wanted)
+    if row is None:
+        return None
+    start, toll, at, rate = row
+    return answer_from(start, toll, at, rate)
+
+
+def fitting_row(web, opening, wanted):
+    """(start, toll, at, rate): just start + toll * t can be carried over all steps, and becomes at + rate * t.
+
+    None if nothing can be carried over them.
+    """
     if crossings_of(opening) != crossings_of(wanted):
         return None
-    # The j that can be carried over the steps so far are start + toll * t; then they have become at + rate * t.
     start, toll, at, rate = 0, 1, 0, 1
     for (tie, side, turns), (_, _, others) in zip(opening[2], wanted[2]):
         _, _, ahead, behind = ends_of(web, tie, side)
@@ -58,7 +69,7 @@ def answer_of(web, opening, wanted):
         apart = abs(ahead) // gcd(rate, ahead)
         start, toll = start + toll * least, toll * apart
         at, rate = (at + rate * least) // ahead * behind + others - turns, rate * apart // ahead * behind
-    return answer_from(start, toll, at, rate)
+    return (start, toll, at, rate)
 
 
 def least_carried(at, rate, ahead):

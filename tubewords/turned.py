@@ -3,7 +3,8 @@
 from tubewords.errors import OutOfRange
 from tubewords.kinds import is_integer_from
 from tubewords.plainwalks import plain_of_any_size
-from tubewords.walks import are_opposite, bounded_walk, check_closed, crossings_of, numbers_of, walk_with
+from tubewords.walks import are_opposite, bounded_walk, check_closed, crossings_of, joined_of_any_size, numbers_of
+from tubewords.walks import opposite_walk, walk_with
 from tubewords.webs import ends_of
 
 
@@ -59,6 +60,18 @@ def trip_and_lap(web, walk):
     """The trip and the lap of a closed walk."""
     trip, lap = trip_and_lap_of_any_size(web, walk)
     return (trip, bounded_walk(lap))
+
+
+def power_of_any_size(web, walk, count):
+    """The plain walk of a closed walk to the power of any integer, looking at no bounds."""
+    trip, lap = trip_and_lap_of_any_size(web, walk)
+    if not lap[2]:
+        power = (lap[0], lap[1] * count, ())
+    elif count < 0:
+        power = joined_of_any_size([opposite_walk(web, lap)] * -count)
+    else:
+        power = joined_of_any_size([(lap[0], 0, ())] + [lap] * count)
+    return plain_of_any_size(web, joined_of_any_size([trip, power, opposite_walk(web, trip)]))
 
 
 def walk_length(web, walk):

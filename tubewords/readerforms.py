@@ -1,0 +1,102 @@
+"""The plain form of folded readers ([45], [46])."""
+
+from tubewords.links import carried_lot, links_of_reader, steps_apart, turned_link, way_of
+from tubewords.numbers import split_over
+from tubewords.webs import ends_of, ways_out
+
+
+def needless_cell(web, reader):
+    """The number of a needless cell of a folded reader and that of its link, None if no cell is needless."""
+    cells, _ = reader
+    for cell, found in links_of_reader(reader).items():
+        if cell != 0 and len(found) == 1:
+            number, link = found[0]
+            back = turned_link(link)
+            if cells[cell][1] == abs(carried_lot(web, way_of(back), cells[back[0]][1])):
+                return (cell, number)
+    return None
+
+
+def without_needless(web, reader):
+    """A folded reader without its needless cells, one taken away after the other."""
+    row = needless_cell(web, reader)
+    while row is not None:
+        cell, number = row
+        cells, links = reader
+        left = [placed_link(link, cell) for link in links[:number] + links[number + 1:]]
+        reader = (cells[:cell] + cells[cell + 1:], tuple(left))
+        row = needless_cell(web, reader)
+    return reader
+
+
+def placed_link(link, gone):
+    """A link with the numbers that cells get when one without links is taken away."""
+    u, tie, side, near, x, far = link
+    return (placed_cell(u, gone), tie, side, near, placed_cell(x, gone), far)
+
+
+def placed_cell(cell, gone):
+    """The number that a cell gets when another one is taken away."""
+    if cell > gone:
+        return cell - 1
+    return cell
+
+
+class PlainForm:
+    """A folded reader without needless cells, while it is told plainly.
+
+    Where a cell is met, what stands for no turns there is chosen anew, by its shift.
+    """
+
+    def __init__(self, web, reader):
+        self.web = web
+        self.old_cells = reader[0]
+        self.by_cell = links_of_reader(reader)
+        self.met = [0]
+        self.numbers = {0: 0}
+        self.shifts = {0: 0}
+        self.done = {}
+        self.links = []
+        at = 0
+        while at < len(self.met):
+            self.go_through(self.met[at])
+            at += 1
+
+    def go_through(self, cell):
+        """Tells the links over the ways at a cell that have not been met."""
+        for way in ways_out(self.web, self.old_cells[cell][0]):
+            over = [(number, link) for number, link in self.by_cell[cell] if way_of(link) == way]
+            for number, link in sorted(over, key=lambda row: self.near_of(cell, row[1])):
+                if number not in self.done:
+                    self.done[number] = True
+                    self.tell(cell, link)
+
+    def near_of(self, cell, link):
+        """The near turns of a link at a met cell as they are told."""
+        return (link[3] + self.shifts[cell]) % steps_apart(self.web, way_of(link), self.old_cells[cell][1])
+
+    def tell(self, cell, link):
+        """Tells a link from a met cell."""
+        _, tie, side, near, other, far = link
+        _, _, ahead, behind = ends_of(self.web, tie, side)
+        told_near = self.near_of(cell, link)
+        _, many = split_over(near + self.shifts[cell] - told_near, self.old_cells[cell][1], ahead)
+        told_far = far + behind * many
+        if other not in self.numbers:
+            self.numbers[other] = len(self.met)
+            self.shifts[other] = told_far
+            self.met.append(other)
+        told_far -= self.shifts[other]
+        lot = self.old_cells[other][1]
+        if lot != 0:
+            told_far %= lot
+        self.links.append((self.numbers[cell], tie, side, told_near, self.numbers[other], told_far))
+
+    def reader(self):
+        """The plain reader."""
+        return (tuple([self.old_cells[cell] for cell in self.met]), tuple(self.links))
+
+
+def plain_form(web, reader):
+    """The plain reader with the span of a folded reader."""
+    return PlainForm(web, without_needless(web, reader)).reader()
