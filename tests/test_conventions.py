@@ -10,6 +10,8 @@ GOING = (0, 0, ((0, 1, 1), (0, 1, 0)))
 OTHER = (0, 0, ((0, 1, 0), (0, 1, 1)))
 BASE = (0, ())
 PLACE = (0, ((1, 0, 1),))
+GIVEN = ((0, 2, ()), GOING)
+READER = (((0, 2),), ((0, 0, 1, 0, 0, 1),))
 PLAN = ((0, (("cross", 0, 1),)), (0, (("line", 0, -1, 2),)))
 
 # Each function of the interface with arguments that it takes.
@@ -116,6 +118,50 @@ CALLS = {
         "core_of": (BRIDGE, 0),
         "home_of": (BRIDGE, 0),
     },
+    "centres": {
+        "is_level": (EVEN, 0),
+        "is_upright": (EVEN, 0),
+        "demands_of": (EVEN, 0),
+        "even_turns": (EVEN, 0),
+        "central_turns": (EVEN, 0),
+        "stray_source": (EVEN, 0, 3),
+        "centre_of": (EVEN, 0),
+    },
+    "linewalks": {
+        "still_turns": (EVEN, GOING),
+        "still_walk": (EVEN, GOING),
+        "rests_on_line": (EVEN, GOING, (0, 2, ())),
+        "keeps_line": (EVEN, GOING, (0, 3, ())),
+        "line_walks": (EVEN, GOING),
+        "line_numbers": (EVEN, (GOING, (0, 2, ())), GOING),
+    },
+    "commuting": {
+        "do_commute": (EVEN, GOING, OTHER),
+        "what_commutes": (EVEN, GOING),
+        "commuting_sort": (EVEN, GOING),
+    },
+    "roots": {
+        "greatest_root": (EVEN, GOING),
+        "root_for": (EVEN, GOING, 2),
+        "has_lone_roots": (EVEN, GOING),
+        "common_powers": (EVEN, GOING, OTHER),
+    },
+    "readers": {
+        "span_reader": (EVEN, 0, GIVEN),
+        "is_reader": (EVEN, READER),
+        "is_folded": (EVEN, READER),
+        "is_plain_reader": (EVEN, READER),
+        "reads_walk": (EVEN, READER, GOING),
+        "reader_walks": (EVEN, READER),
+    },
+    "spans": {
+        "in_span": (EVEN, 0, GIVEN, OTHER),
+        "same_span": (EVEN, 0, GIVEN, (OTHER,)),
+        "span_index": (EVEN, 0, GIVEN),
+        "free_rank": (EVEN, 0, (GOING,)),
+        "span_paper": (EVEN, 0, GIVEN, GOING),
+        "shows_in_span": (EVEN, 0, GIVEN, GOING, (("given", 1),)),
+    },
 }
 
 
@@ -150,7 +196,9 @@ class ConventionsTest(unittest.TestCase):
     def test_answers_are_true_or_false(self):
         for name in ("is_web", "is_walk", "is_closed", "is_plain", "are_equal", "is_equality_paper", "is_place",
                      "keeps_place", "is_turned", "goes_on", "is_plan", "comes_before", "are_complete", "are_carried",
-                     "shows_carrying"):
+                     "shows_carrying", "is_level", "is_upright", "rests_on_line", "keeps_line", "do_commute",
+                     "has_lone_roots", "is_reader", "is_folded", "is_plain_reader", "reads_walk", "in_span",
+                     "same_span", "shows_in_span"):
             for module, other, function, arguments in functions():
                 if other == name:
                     self.assertIsInstance(function(*arguments), bool)
