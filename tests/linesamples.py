@@ -3,8 +3,8 @@
 import random
 
 from tests.samples import (
-    BRIDGE, DOUBLING, EVEN, KLEIN, MIRROR, PAIR, TRIANGLE, TURNING, back, ends, joined, led, numbers, plain_by_words,
-    shrunk, some_closed, some_walk)
+    DOUBLING, EVEN, KLEIN, MIRROR, PAIR, TRIANGLE, TURNING, back, ends, joined, led, numbers, plain_by_words, shrunk,
+    some_closed, some_walk)
 
 MINUS = (1, ((0, 0, 2, -2),))
 TWO_TIES = (1, ((0, 0, 2, 2), (0, 0, 3, -3)))
@@ -87,7 +87,3 @@ def share_sign(web, walk):
         _, _, ahead, behind = ends(web, t, s)
         above, below = above * behind, below * ahead
     return above // below if abs(above) == abs(below) else 0
-
-
-__all__ = ["BOUND", "BRIDGE", "E", "LINE_WEBS", "going_in", "is_idle", "length", "line_of", "move_on_line", "power",
-           "share_sign"]

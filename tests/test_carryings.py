@@ -2,8 +2,8 @@ import random
 import unittest
 
 from tests.samples import (
-    ALL_WEBS, BRIDGE, DOUBLING, EVEN, FULL, KLEIN, MIRROR, MOST, OTHER_KINDS, PIECES, STILL, TRIANGLE, TURNING, WEBS,
-    back, closed_in, ends, joined, last_room, some_walk, spoilt, walks_in)
+    ALL_WEBS, BRIDGE, DOUBLING, EVEN, FULL, KLEIN, MOST, OTHER_KINDS, PAIR, STILL, TRIANGLE, TURNING, WEBS, back,
+    closed_in, joined, last_room, some_walk, spoilt, walks_in)
 from tests.test_turnrules import BOUND, FIVE_PRIMES, FOUR_PRIMES, HUNDRED, MANY_AND_GREAT, SQUARES, TOO_GREAT, TOO_MANY
 from tubewords.carryings import are_carried, carrying_paper, shows_carrying
 from tubewords.errors import NotClosed, TooGreat, TooMany
@@ -62,6 +62,10 @@ class GoingTest(PaperCase):
         self.assertEqual(opening_answers(web, g, h)[0], ("row", 4, 6))
         for j in range(-20, 21):
             self.assertIs(shows_carrying(web, g, h, True, ("on", 0, j)), j % 6 == 4)
+
+    def test_walks_that_stay_have_no_openings(self):
+        for g, h in ((CROSSED, (0, 7, ())), ((0, 7, ()), CROSSED), ((0, 0, ()), (0, 0, ()))):
+            self.wrong(TURNING, g, h, ("on", 0, 0))
 
     def test_numbers_of_openings(self):
         g, h = (0, 0, ((0, 1, 1), (0, 1, 0))), (0, 0, ((0, 1, 0), (0, 1, 1)))
@@ -123,6 +127,8 @@ class StayingTest(PaperCase):
         self.shown(SQUARES, (0, 2, ()), (0, 3, ()), False, ("rules",))
         self.shown(BRIDGE, (0, 2, ()), (1, 3, ()), True, ("plan",))
         self.shown(BRIDGE, (0, 1, ()), (1, 1, ()), False, ("rules",))
+        self.shown(TURNING, (0, 1, ()), (0, 2, ()), False, ("rules",))
+        self.shown(TURNING, (0, -1, ()), (0, 1, ()), False, ("rules",))
 
     def test_laps_are_looked_at(self):
         walk = (0, 1, ((0, 1, 8), (0, -1, -1)))
@@ -148,6 +154,9 @@ class StayingTest(PaperCase):
         self.right(HALVES, (0, 0, ()), (2, 5, ()), False, ("unlike", "zero"))
         self.right(HALVES, (0, 0, ()), (2, 5, ()), False, ("unlike", "pieces"))
         self.wrong(TURNING, (0, 0, ()), CROSSED, ("unlike", "zero"))
+        for g, h in (((0, 5, ()), CROSSED), (CROSSED, (0, 5, ())), ((0, 1, ((0, 1, 0),)), (0, 0, ())),
+                     ((0, 0, ()), (0, 1, ((0, 1, 0),))), ((0, 1, ((0, 1, 0),)), (0, 0, ((0, -1, 0),)))):
+            self.wrong(TURNING, g, h, ("unlike", "zero"))
 
     def test_unlike_rests(self):
         for g, h in (((0, 5, ()), (0, 7, ())), ((0, 6, ()), (1, 30, ())), ((0, 5, ()), (1, -25, ()))):
@@ -159,6 +168,9 @@ class StayingTest(PaperCase):
         self.wrong(HALVES, (0, 5, ()), (2, 7, ()), ("unlike", "rests"))
         self.wrong(TURNING, CROSSED, (0, 5, ()), ("unlike", "rests"))
         self.wrong(TURNING, (0, 5, ()), CROSSED, ("unlike", "rests"))
+        for walk in ((0, 1, ((0, 1, 0),)), (0, 1, ((0, 1, 6),))):
+            self.wrong(TURNING, (0, 5, ()), walk, ("unlike", "rests"))
+            self.wrong(TURNING, walk, (0, 5, ()), ("unlike", "rests"))
 
     def test_unlike_pieces(self):
         for g, h in (((0, 1, ()), (2, 1, ())), ((2, 0, ()), (1, 0, ())), ((2, 0, ((1, 1, 0),)), (0, 0, ())),
@@ -174,6 +186,7 @@ class StayingTest(PaperCase):
         self.wrong(TURNING, CROSSED, (0, 0, ((0, -1, 0),)), ("unlike", "going"))
         self.wrong(TURNING, (0, 7, ()), (0, 5, ()), ("unlike", "going"))
         self.wrong(TURNING, CROSSED, (0, 7, ()), ("unlike", "answers"))
+        self.wrong(TURNING, (0, 7, ()), CROSSED, ("unlike", "answers"))
         self.wrong(TURNING, (0, 7, ()), (0, 5, ()), ("unlike", "answers"))
 
     def test_words(self):
@@ -196,6 +209,7 @@ class PlanPapersTest(PaperCase):
                      ((0, (self.GO_BACK, self.GO_BACK)), (0, ())), ((0, (self.ON, self.GO_BACK, self.GO_BACK, self.GO_BACK)),)):
             self.wrong(TURNING, (0, 9, ()), (0, 4, ()), ("plan", plan))
         self.wrong(TURNING, (0, 9, ()), (0, 9, ()), ("plan", ((0, (self.ON, self.GO_BACK)),)))
+        self.wrong(TURNING, (0, 3, ()), (0, 3, ()), ("plan", ((0, (self.ON,)),)))
         self.wrong(TURNING, (0, 9, ()), (0, -4, ()), ("plan", ((0, (self.GO_BACK, self.GO_BACK)),)))
 
     def test_rooms_of_plans(self):
@@ -210,6 +224,7 @@ class PlanPapersTest(PaperCase):
     def test_walks_that_go_on_have_no_plans(self):
         self.wrong(TURNING, CROSSED, CROSSED, ("plan", ((0, ()),)))
         self.wrong(TURNING, (0, 0, ()), CROSSED, ("plan", ((0, ()),)))
+        self.wrong(TURNING, CROSSED, (0, 0, ()), ("plan", ((0, ()),)))
 
     def test_values_that_are_no_plans(self):
         for value in OTHER_KINDS + (((0, (("cross", 1, 1),)),), ((1, ()),), ((0, ()),) * 501, ((False, ()),)):
@@ -267,6 +282,9 @@ class RulesPapersTest(PaperCase):
         self.wrong(BRIDGE, (0, 2, ()), (1, 0, ()), ("rules", rules))
         self.wrong(HALVES, (0, 2, ()), (2, 5, ()), ("rules", told_rules(HALVES, 0)))
         self.wrong(TURNING, CROSSED, (0, 3, ()), ("rules", told_rules(TURNING, 0)))
+        for walk in ((0, 1, ((0, 1, 0),)), (0, 1, ((0, 1, 6),))):
+            self.wrong(TURNING, walk, (0, 4, ()), ("rules", told_rules(TURNING, 0)))
+            self.wrong(TURNING, (0, 4, ()), walk, ("rules", told_rules(TURNING, 0)))
         self.wrong(TURNING, CROSSED, (0, 0, ((0, -1, 0),)), ("rules", told_rules(TURNING, 0)))
         # Unlike rests stay unlike, so rules show them as well.
         self.right(BRIDGE, (0, 5, ()), (0, 7, ()), False, ("rules", rules))
@@ -364,10 +382,9 @@ class RaisesTest(unittest.TestCase):
         self.assertIs(shows_carrying(FIVE_PRIMES, (0, 30, ()), (1, 77, ()), True, plan), True)
         self.assertIs(shows_carrying(FIVE_PRIMES, (0, 30 * BOUND, ()), (1, 77 * BOUND, ()), True, plan), True)
 
-    def test_samples(self):
-        for web in (FULL, MIRROR):
+    def test_many_walks_that_are_not_closed(self):
+        for web in (FULL, PAIR):
             for walk in walks_in(web, 381, 20):
                 if last_room(web, walk) != walk[0]:
                     for error in self.raised(web, walk, (0, 0, ()), NotClosed):
                         self.assertEqual(error.walk, walk)
-        self.assertEqual(ends(PIECES, 0, 1), (3, 1, 2, 5))

@@ -2,7 +2,7 @@ import random
 import unittest
 
 from tests.samples import (
-    ALL_WEBS, BRIDGE, FULL, KLEIN, LONE, PAIR, PIECES, STILL, TRIANGLE, TURNING, ends, joined, last_room, same, ways)
+    ALL_WEBS, BRIDGE, FULL, KLEIN, LONE, PIECES, STILL, TRIANGLE, TURNING, ends, joined, last_room, same)
 from tubewords.cores import core_of, home_of
 from tubewords.webs import piece_of
 
@@ -128,7 +128,3 @@ class HomeTest(unittest.TestCase):
                 end = last_room(web, walk)
                 self.assertIn(end, core_of(web, room)[0])
                 self.assertTrue(same(web, joined((room, 1, ()), walk), joined(walk, (end, k, ()))))
-
-    def test_webs_with_two_ways(self):
-        self.assertEqual(len(ways(PAIR, 1)), 2)
-        self.assertEqual(core_of(PAIR, 1), ((0, 1), (0, 1, 2)))

@@ -2,10 +2,9 @@ import random
 import unittest
 
 from tests.linesamples import (
-    BOUND, E, HALVES, LINE_WEBS, MINUS, TURNED, TWO_TIES, going_in, is_idle, length, line_of, move_on_line, power,
+    BOUND, E, HALVES, LINE_WEBS, MINUS, TURNED, TWO_TIES, going_in, length, line_of, move_on_line, power,
     share_sign)
-from tests.samples import (
-    BRIDGE, DOUBLING, EVEN, KLEIN, TRIANGLE, TURNING, back, closed_in, joined, led, plain_by_words, same, some_closed)
+from tests.samples import DOUBLING, EVEN, KLEIN, TURNING, back, closed_in, joined, led, plain_by_words, same
 from tubewords.commuting import commuting_sort, do_commute, what_commutes
 from tubewords.errors import NotClosed, NotJoined, OutOfRange, Stays, TooGreat, TooMany
 from tubewords.linewalks import (
@@ -288,10 +287,3 @@ class BoundsTest(unittest.TestCase):
             for walk in (E, open_walk, (0, 1, ()), (0, 0, LONG + LONG)):
                 self.assertEqual(self.raised(OutOfRange, root_for, self.WEB, walk, count).value, count)
         self.assertEqual(self.raised(NotClosed, root_for, self.WEB, open_walk, 1).walk, open_walk)
-
-    def test_samples(self):
-        chance = random.Random(429)
-        for web in (BRIDGE, TRIANGLE):
-            walk = some_closed(chance, web, 6)
-            self.assertIs(do_commute(web, walk, walk), True)
-        self.assertTrue(is_idle(TURNING, (0, 2, ((0, 1, -3), (0, -1, 0)))))

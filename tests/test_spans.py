@@ -3,9 +3,9 @@ import unittest
 from math import gcd
 
 from tests.samples import (
-    BRIDGE, DOUBLING, EVEN, KLEIN, OTHER_KINDS, STILL, TRIANGLE, TURNING, back, ends, joined, last_room,
-    plain_by_words, same, some_closed, spoilt)
-from tests.spansamples import place_behind, some_given, some_product, some_web, tables_in
+    BRIDGE, DOUBLING, EVEN, KLEIN, OTHER_KINDS, STILL, TURNING, back, ends, joined, plain_by_words, same,
+    some_closed, spoilt)
+from tests.spansamples import place_behind, some_product, tables_in
 from tests.test_readers import given_in, lcm, over_ways
 from tubewords.errors import NotClosed, NotInOne, TooMany
 from tubewords.readers import span_reader
@@ -498,9 +498,3 @@ class RaisesTest(unittest.TestCase):
         given = tuple((0, 2 ** i, ()) for i in range(12))
         self.assertIs(in_span(self.WEB, 0, given, (0, 1, ())), True)
         self.assertIsNone(span_index(self.WEB, 0, given))
-
-    def test_samples(self):
-        chance = random.Random(651)
-        web = some_web(chance)
-        self.assertEqual(some_given(chance, web, 0, 0), ())
-        self.assertEqual(last_room(TRIANGLE, (0, 0, ((0, 1, 0),))), 1)

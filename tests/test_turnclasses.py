@@ -2,7 +2,7 @@ import random
 import unittest
 
 from tests.samples import (
-    ALL_WEBS, BRIDGE, DOUBLING, EVEN, KLEIN, LONE, MIRROR, PIECES, STILL, TRIANGLE, TURNING, WEBS, ends, ways)
+    ALL_WEBS, BRIDGE, DOUBLING, EVEN, KLEIN, LONE, MIRROR, PIECES, STILL, TURNING, WEBS, ends, ways)
 from tubewords.errors import TooMany
 from tubewords.turnclasses import turn_class
 from tubewords.turnorder import comes_before

@@ -26,6 +26,11 @@ TOO_MANY = (5, ((2, 2, 900, 84), (3, 3, 120, 81), (4, 2, 100, 189), (0, 4, 45, 4
                 (1, 3, 35, 320), (2, 4, 100, 15)))
 # This one has 28 told rules, with amounts far above 10 ** 60.
 TOO_GREAT = (4, ((0, 2, 961, 768), (2, 3, 1, 768), (1, 2, 3, 961), (0, 3, 768, 3), (0, 1, 81, 744)))
+# In the first one of these the greatest amount is only led to, in the second one it is only led from.
+GREAT_BELOW = (5, ((2, 0, 80, 147), (0, 0, 375, 686), (3, 1, 64, 420), (2, 1, 675, 700), (4, 3, 784, 729),
+                   (3, 4, 196, 160), (1, 4, 168, 280)))
+GREAT_ABOVE = (5, ((2, 0, 80, 147), (0, 0, 375, 686), (3, 1, 64, 420), (2, 1, 675, 700), (4, 3, 784, 729),
+                   (3, 0, 196, 160), (1, 4, 168, 280)))
 # And this one has 193, with such amounts as well.
 MANY_AND_GREAT = (5, ((3, 1, 512, 729), (4, 3, 96, 997), (3, 4, 991, 576), (1, 1, 864, 48), (4, 0, 81, 576),
                       (0, 2, 729, 997), (0, 2, 1, 972)))
@@ -183,7 +188,8 @@ class ToldRulesTest(unittest.TestCase):
         self.raises(TOO_MANY, 0, TooMany, "rules")
 
     def test_great_rules(self):
-        self.raises(TOO_GREAT, 0, TooGreat, "rules")
+        for web in (TOO_GREAT, GREAT_ABOVE, GREAT_BELOW):
+            self.raises(web, 0, TooGreat, "rules")
 
     def test_which_error_goes_first(self):
         self.raises(MANY_AND_GREAT, 0, TooMany, "rules")
@@ -338,6 +344,23 @@ class CompleteTest(unittest.TestCase):
         self.assertIs(are_complete(TURNING, 0, ((0, 9, 0, 8), (0, 3, 0, 2))), False)
         self.assertIs(are_complete(TURNING, 0, ((0, 3, 0, 2), (0, 6, 0, 2))), False)
         self.assertIs(are_complete(TURNING, 0, ((0, 3, 0, 2), (0, 9, 0, -4))), False)
+
+    def test_pairs_of_rules_that_lead_to_other_rooms(self):
+        # At (1, 6) one rule leads to (0, 3), and the other one to (1, 2), which is brought down to (0, 1).
+        web = (2, ((1, 0, 2, 1), (1, 1, 3, 1)))
+        for rules in (((1, 2, 0, 1), (1, 3, 1, 1)), ((1, 3, 1, 1), (1, 2, 0, 1))):
+            self.assertIs(are_complete(web, 1, rules), False)
+            self.assertIs(are_complete(web, 1, rules + ((0, 3, 0, 1),)), True)
+            self.assertIs(are_complete(web, 1, ((0, 3, 0, 1),) + rules), True)
+        # Here both lead to room 0.
+        web = (2, ((1, 0, 2, 1), (1, 0, 3, 1)))
+        self.assertIs(are_complete(web, 1, ((1, 2, 0, 1), (1, 3, 0, 1))), False)
+        self.assertIs(are_complete(web, 1, ((1, 2, 0, 1), (1, 3, 0, 1), (0, 3, 0, 2))), True)
+        # All stay in one room, and the numbers have no common divisor.
+        web = (1, ((0, 0, 2, 1), (0, 0, 9, 3)))
+        self.assertIs(are_complete(web, 0, ((0, 2, 0, 1), (0, 9, 0, 3))), True)
+        self.assertIs(are_complete(web, 0, ((0, 4, 0, 1), (0, 2, 0, 1), (0, 9, 0, 3))), True)
+        self.assertIs(are_complete(web, 0, ((0, 4, 0, 3), (0, 2, 0, 1), (0, 9, 0, 3))), False)
 
     def test_both_signs(self):
         self.assertIs(are_complete(MIRROR, 0, ((0, 3, 0, -2),)), True)

@@ -9,7 +9,6 @@ from tubewords.sources import first_way
 from tubewords.turned import trip_and_lap_of_any_size
 from tubewords.turnorder import turn_parts
 from tubewords.turnrules import are_complete, bounded_completion, brought_down, least_turn, told_rules
-from tubewords.walks import check_closed
 from tubewords.webs import piece_of
 
 
@@ -26,8 +25,6 @@ def are_carried(web, first, second):
 
 def laps_of(web, first, second):
     """The laps of two walks, of any size, if both are closed."""
-    check_closed(web, first)
-    check_closed(web, second)
     return (trip_and_lap_of_any_size(web, first)[1], trip_and_lap_of_any_size(web, second)[1])
 
 

@@ -97,8 +97,7 @@ def centre_of_core(web, room):
 
 def is_ring_of_ones(web, rooms, ties):
     """Whether a core with ties is a ring of ends 1 and -1."""
-    if len(rooms) != len(ties):
-        return False
+    # With two ends at each room there are as many ties as rooms.
     for room in rooms:
         ends = ends_at(web, room, ties)
         if len(ends) != 2 or any([abs(end) != 1 for end in ends]):

@@ -9,7 +9,7 @@ from math import lcm
 
 from tubewords.errors import NotInOne, TooMany
 from tubewords.links import carried_lot, links_by_cell, read_along, steps_apart, way_of
-from tubewords.numbers import bezout, divides, split_over
+from tubewords.integers import bezout, divides, split_over
 from tubewords.plainwalks import plain_of_any_size
 from tubewords.spanrows import SpanRows
 from tubewords.walks import MOST_STEPS, check_closed, crossings_of, numbers_of
@@ -183,10 +183,13 @@ class Folding:
         return (tuple(cells), tuple(placed))
 
     def read(self, walk):
-        """The number of a row for a closed walk at the room, None if it is not in the span."""
+        """The number of a row for a walk, None if it is not in the span."""
+        if walk[0] != self.rooms[0]:
+            return None
         along = read_along(self.web, self.links_left(), self.lots, plain_of_any_size(self.web, walk))
         if along is None:
             return None
+        # A walk that is not closed does not end at a cell of the room of cell 0.
         rows, (cell, at_hand) = along
         if cell != 0 or not divides(self.lots[0], at_hand):
             return None

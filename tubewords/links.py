@@ -2,7 +2,7 @@
 
 from math import gcd, lcm
 
-from tubewords.numbers import split_over
+from tubewords.integers import split_over
 from tubewords.webs import ends_of
 
 

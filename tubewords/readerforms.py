@@ -1,45 +1,20 @@
 """The plain form of folded readers ([45], [46])."""
 
 from tubewords.links import carried_lot, links_of_reader, steps_apart, turned_link, way_of
-from tubewords.numbers import split_over
+from tubewords.integers import split_over
 from tubewords.webs import ends_of, ways_out
 
 
-def needless_cell(web, reader):
-    """The number of a needless cell of a folded reader and that of its link, None if no cell is needless."""
+def has_needless_cell(web, reader):
+    """Whether a cell of a folded reader is needless."""
     cells, _ = reader
     for cell, found in links_of_reader(reader).items():
+        # A link that leads from the cell to itself is told twice.
         if cell != 0 and len(found) == 1:
-            number, link = found[0]
-            back = turned_link(link)
+            back = turned_link(found[0][1])
             if cells[cell][1] == abs(carried_lot(web, way_of(back), cells[back[0]][1])):
-                return (cell, number)
-    return None
-
-
-def without_needless(web, reader):
-    """A folded reader without its needless cells, one taken away after the other."""
-    row = needless_cell(web, reader)
-    while row is not None:
-        cell, number = row
-        cells, links = reader
-        left = [placed_link(link, cell) for link in links[:number] + links[number + 1:]]
-        reader = (cells[:cell] + cells[cell + 1:], tuple(left))
-        row = needless_cell(web, reader)
-    return reader
-
-
-def placed_link(link, gone):
-    """A link with the numbers that cells get when one without links is taken away."""
-    u, tie, side, near, x, far = link
-    return (placed_cell(u, gone), tie, side, near, placed_cell(x, gone), far)
-
-
-def placed_cell(cell, gone):
-    """The number that a cell gets when another one is taken away."""
-    if cell > gone:
-        return cell - 1
-    return cell
+                return True
+    return False
 
 
 class PlainForm:
@@ -98,5 +73,5 @@ class PlainForm:
 
 
 def plain_form(web, reader):
-    """The plain reader with the span of a folded reader."""
-    return PlainForm(web, without_needless(web, reader)).reader()
+    """The plain reader with the span of a folded reader without needless cells."""
+    return PlainForm(web, reader).reader()

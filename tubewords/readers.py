@@ -4,17 +4,19 @@ from tubewords.errors import TooMany
 from tubewords.folding import MOST_GIVEN, Folding, check_given
 from tubewords.kinds import is_integer, is_integer_from, is_tuple_of
 from tubewords.links import carried_lot, links_of_reader, read_along, steps_apart, way_of
-from tubewords.numbers import divides
+from tubewords.integers import divides
 from tubewords.plainwalks import plain_of_any_size, plain_walk
-from tubewords.readerforms import needless_cell, plain_form
+from tubewords.readerforms import has_needless_cell, plain_form
 from tubewords.sources import brought_along
-from tubewords.walks import is_closed, joined_of_any_size, opposite_walk
+from tubewords.walks import joined_of_any_size, opposite_walk
 from tubewords.webs import ends_of, is_crossing, is_room
 
 
 def span_reader(web, room, walks):
     """The plain reader of the span of given walks."""
     check_given(web, room, walks)
+    # Folding leaves no needless cell: plain walks go on from a cell over another way than they came, or with turns that
+    # the end behind the crossing does not divide, and the lot of a needless cell is a multiple of that end.
     return plain_form(web, Folding(web, room, walks).reader())
 
 
@@ -91,7 +93,7 @@ def are_links_apart(web, reader, by_cell):
 
 def is_plain_reader(web, reader):
     """Whether a reader is folded and plain."""
-    if not is_folded(web, reader) or needless_cell(web, reader) is not None:
+    if not is_folded(web, reader) or has_needless_cell(web, reader):
         return False
     return plain_form(web, reader) == reader
 
@@ -99,12 +101,13 @@ def is_plain_reader(web, reader):
 def reads_walk(web, reader, walk):
     """Whether a folded reader reads a walk."""
     cells, _ = reader
-    if walk[0] != cells[0][0] or not is_closed(web, walk):
+    if walk[0] != cells[0][0]:
         return False
     lots = [lot for _, lot in cells]
     along = read_along(web, links_of_reader(reader), lots, plain_of_any_size(web, walk))
     if along is None:
         return False
+    # A walk that is not closed does not end at a cell of the room of cell 0.
     cell, at_hand = along[1]
     return cell == 0 and divides(lots[0], at_hand)
 

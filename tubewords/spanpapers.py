@@ -7,8 +7,8 @@ from tubewords.walks import joined_of_any_size, numbers_of, opposite_walk
 
 MOST_ROW_STEPS = 200
 
-# This is 10 ** 2000; numbers of so many digits are not written out in this program.
-TOO_GREAT_ROW_TURNS = ((10 ** 50) ** 10) ** 4
+# Its fourth power is 10 ** 2000, the bound of rows; numbers of so many digits are not written out in this program.
+ROW_BOUND_ROOT = (10 ** 50) ** 10
 
 
 def row_walks(web, room, walks, value):
@@ -21,10 +21,16 @@ def row_walks(web, room, walks, value):
         if walk is None:
             return None
         plain = plain_of_any_size(web, walk)
-        if len(plain[2]) > MOST_ROW_STEPS or any([abs(turns) >= TOO_GREAT_ROW_TURNS for turns in numbers_of(plain)]):
+        if is_great_row(plain):
             return None
         found.append(plain)
     return found
+
+
+def is_great_row(plain):
+    """Whether the plain walk of a row has too many steps or too great numbers."""
+    bound = ROW_BOUND_ROOT ** 4
+    return len(plain[2]) > MOST_ROW_STEPS or any([abs(turns) >= bound for turns in numbers_of(plain)])
 
 
 def row_walk(web, room, walks, found, row):

@@ -8,19 +8,14 @@ from tubewords.links import carried_lot, links_of_reader, way_of
 from tubewords.plainwalks import plain_of_any_size
 from tubewords.readers import span_reader
 from tubewords.spanpapers import row_walks
-from tubewords.walks import MOST_STEPS, is_closed
+from tubewords.walks import MOST_STEPS
 from tubewords.webs import ends_of, ways_out
 
 
 def in_span(web, room, walks, walk):
     """Whether a walk is in the span of given walks."""
     check_given(web, room, walks)
-    return is_closed_at(web, room, walk) and Folding(web, room, walks).read(walk) is not None
-
-
-def is_closed_at(web, room, walk):
-    """Whether a walk is closed and begins in a room."""
-    return walk[0] == room and is_closed(web, walk)
+    return Folding(web, room, walks).read(walk) is not None
 
 
 def same_span(web, room, first, second):
@@ -41,8 +36,6 @@ def span_paper(web, room, walks, walk):
     check_given(web, room, walks)
     if sum([len(given[2]) for given in walks]) + len(walk[2]) > MOST_STEPS:
         raise TooMany("steps")
-    if not is_closed_at(web, room, walk):
-        return None
     folding = Folding(web, room, walks)
     last = folding.read(walk)
     if last is None:
@@ -53,8 +46,6 @@ def span_paper(web, room, walks, walk):
 def shows_in_span(web, room, walks, walk, value):
     """Whether a value is a span paper for given walks and a walk."""
     check_given(web, room, walks)
-    if not is_closed_at(web, room, walk):
-        return False
     found = row_walks(web, room, walks, value)
     return found is not None and found[-1] == plain_of_any_size(web, walk)
 

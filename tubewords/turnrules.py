@@ -165,6 +165,4 @@ def are_apart(rule, other):
 
     If all other pairs agree, it then does not matter which rules are used, so that these two agree as well.
     """
-    v, m, w, l = rule
-    _, n, x, k = other
-    return v == w == x and l != -m and k != -n and gcd(m, n) == 1
+    return rule[0] == rule[2] == other[2] and gcd(rule[1], other[1]) == 1

@@ -26,7 +26,5 @@ def split_over(number, lot, ahead):
     common = gcd(lot, ahead)
     if number % common != 0:
         return None
-    if lot == 0:
-        return (0, number // ahead)
     times = bezout(lot, ahead)[1] * (number // common) % abs(ahead // common)
     return (times, (number - times * lot) // ahead)
