@@ -250,6 +250,18 @@ class PlanPapersTest(PaperCase):
                 self.right(web, (room, turns, ()), second, answer, paper)
         self.assertGreater(min(answers.values()), 20)
 
+    def test_turns_that_are_carried_into_their_opposite(self):
+        web = (3, ((0, 0, 2, -2), (0, 1, 5, 3), (1, 2, 7, 2)))
+        for room, least in ((0, 2), (1, 6), (2, 12)):
+            for turns in range(1, 30):
+                if turns % least == 0:
+                    self.shown(web, (room, turns, ()), (room, -turns, ()), True, ("plan",))
+                    self.shown(web, (room, -turns, ()), (room, turns, ()), True, ("plan",))
+                else:
+                    self.shown(web, (room, turns, ()), (room, -turns, ()), False, ("rules",))
+        self.shown(web, (0, 70, ()), (2, 12, ()), True, ("plan",))
+        self.shown(web, (0, 70, ()), (2, -12, ()), True, ("plan",))
+
     def test_many_entries(self):
         # All 7s become 5s, and then 3s, and then 2s, in the rooms one after the other.
         web = (3, ((0, 1, 7, 5), (1, 2, 7, 5), (2, 0, 7, 5), (0, 1, 5, 3), (1, 2, 5, 3), (2, 0, 5, 3), (0, 1, 3, 2)))

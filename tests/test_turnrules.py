@@ -119,6 +119,11 @@ class ToldRulesTest(unittest.TestCase):
         self.assertEqual(told_rules(web, 0), ((0, -2, 0, 2), (1, 3, 0, 2)))
         web = (2, ((0, 0, 4, -4), (0, 1, 2, 3)))
         self.assertEqual(told_rules(web, 1), ((0, -4, 0, 4), (1, 3, 0, 2)))
+        # 10 turns in room 0 stand for their opposite, and so do the 6 turns in room 1 into which they are carried.
+        web = (2, ((0, 0, 2, -2), (0, 1, 5, 3)))
+        self.assertEqual(told_rules(web, 0), ((0, -2, 0, 2), (0, 5, 1, 3), (1, -6, 1, 6)))
+        web = (3, ((0, 0, 2, -2), (0, 1, 5, 3), (1, 2, 7, 2)))
+        self.assertEqual(told_rules(web, 0), ((0, -2, 0, 2), (0, 5, 1, 3), (1, -6, 1, 6), (1, 7, 2, 2), (2, -12, 2, 12)))
         # What is led to turns that stand for their opposite too is told above 0.
         self.assertEqual(told_rules((1, ((0, 0, 1, -1), (0, 0, -5, 2))), 0), ((0, -1, 0, 1), (0, 5, 0, 2)))
         self.assertEqual(told_rules((1, ((0, 0, 5, -2),)), 0), ((0, 5, 0, -2),))

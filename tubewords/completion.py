@@ -26,8 +26,8 @@ def entries_back(entries):
 class Completion:
     """The completed rules of a piece.
 
-    A rule with the number n is (v, m, w, l) with m above 0; line number n carries (v, m) into (w, l). Lines are triples
-    of the rooms in which they begin and end and a list of entries of a plan.
+    A rule with the number n is (v, m, w, l) with m above 0; line number n carries (v, m) into (w, l). Lines are pairs
+    of the room in which they begin and a list of entries of a plan.
     """
 
     def __init__(self, web, room):
@@ -82,9 +82,9 @@ class Completion:
             one, other = (one[0], -one[1]), (other[0], -other[1])
         return self.add_rule(one, other, path)
 
-    def add_line(self, begin, end, entries):
+    def add_line(self, begin, entries):
         """Adds a line and returns its number."""
-        self.lines.append((begin, end, entries))
+        self.lines.append((begin, entries))
         return len(self.lines) - 1
 
     def add_rule(self, one, other, path):
@@ -92,7 +92,7 @@ class Completion:
         room, turns = one
         gone = [number for number in self.rules_at[room] if self.rules[number][1] % turns == 0]
         rows = [self.without_rule(number) for number in gone]
-        number = self.add_line(room, other[0], path)
+        number = self.add_line(room, path)
         self.rules[number] = one + other
         for earlier in self.rules_at[room]:
             both = lcm(turns, self.rules[earlier][1])
@@ -155,7 +155,7 @@ class Completion:
             end, entries = self.brought((w, l))
             if entries:
                 self.without_rule(number)
-                again = self.add_line(v, end[0], [("line", number, 1, 1)] + entries)
+                again = self.add_line(v, [("line", number, 1, 1)] + entries)
                 self.rules[again] = (v, m) + end
                 self.rules_at[v].append(again)
 
@@ -166,7 +166,7 @@ class Completion:
             turn, entries = rows.pop(0)
             (room, turns), down = self.brought(turn)
             if self.signless_line(room, turns) is None:
-                number = self.add_line(room, room, entries_back(down) + entries + down)
+                number = self.add_line(room, entries_back(down) + entries + down)
                 kept = self.signless[room]
                 self.signless[room] = {amount: kept[amount] for amount in kept if amount % turns != 0}
                 self.signless[room][abs(turns)] = number

@@ -154,9 +154,7 @@ def moving_turns(web, lap, count, still):
         return None
     start, toll, at, rate = row
     if still != 0:
-        # What comes out behind the lap must be such that it can be carried over it again.
-        if (at - start) % still != 0:
-            return None
+        # What comes out behind the lap then differs by a multiple of its toll, so that it can be carried on and on.
         return start
     answer = answer_from(start, toll, at, rate)
     if answer is None:

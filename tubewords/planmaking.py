@@ -1,7 +1,7 @@
 """Plans made of the lines of completed rules ([26], [28])."""
 
 from tubewords.completion import entries_back
-from tubewords.plans import MOST_ENTRIES, MOST_TIMES
+from tubewords.plans import MOST_ENTRIES
 from tubewords.webs import ends_of
 
 # Lines of no more entries are written out where they are gone along, so that a plan has fewer lines.
@@ -16,9 +16,9 @@ def plan_of_crossings(walk):
 def plan_of_lines(web, lines, room, entries):
     """The plan whose last line begins in a room and has these entries, which go along some of the lines."""
     told = []
-    for line in lines:
-        told.append(packed(lines, written_out(told, line[2])))
-    last = packed(lines, written_out(told, entries))
+    for _, line in lines:
+        told.append(packed(written_out(told, line)))
+    last = packed(written_out(told, entries))
     numbers = {}
     rows = []
     for number in used_numbers(told, last):
@@ -40,25 +40,15 @@ def written_out(told, entries):
     return found
 
 
-def packed(lines, entries):
-    """The entries without those that go there and at once back; a closed line that is repeated gets its times."""
+def packed(entries):
+    """The entries without those that go there and at once back, in a list."""
     kept = []
     for entry in entries:
-        if kept and entry == entries_back(kept[-1:])[0]:
+        if kept and [entry] == entries_back(kept[-1:]):
             kept.pop()
-        elif kept and can_repeat(lines, kept[-1], entry):
-            kept[-1] = kept[-1][:3] + (kept[-1][3] + entry[3],)
         else:
             kept.append(entry)
     return kept
-
-
-def can_repeat(lines, last, entry):
-    """Whether an entry goes along the same closed line as the last one, so that both can be told as one."""
-    if entry[0] == "cross" or last[:3] != entry[:3] or last[3] + entry[3] > MOST_TIMES:
-        return False
-    begin, end, _ = lines[entry[1]]
-    return begin == end
 
 
 def used_numbers(told, last):

@@ -59,14 +59,14 @@ def common_powers(web, first, second):
     check_going(web, [first, second])
     length, other = walk_length(web, first), walk_length(web, second)
     common = gcd(length, other)
-    if power_sign(web, first, second, 2 * other, 2 * length) is None:
-        return None
-    for times in range(1, 2 * common):
-        count, others = times * (other // common), times * (length // common)
-        sign = power_sign(web, first, second, count, others)
-        if sign is not None:
-            return (count, sign * others)
-    return (2 * other, 2 * length * power_sign(web, first, second, 2 * other, 2 * length))
+    # All powers in common are powers of the least ones, and these are found where both are of the length 2 k l of [42].
+    for times in range(1, 2 * common + 1):
+        if 2 * common % times == 0:
+            count, others = times * (other // common), times * (length // common)
+            sign = power_sign(web, first, second, count, others)
+            if sign is not None:
+                return (count, sign * others)
+    return None
 
 
 def power_sign(web, first, second, count, others):
