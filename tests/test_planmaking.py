@@ -75,6 +75,27 @@ class PlanOfLinesTest(unittest.TestCase):
         self.check(web, [(0, row)], room, [use(0, -1)])
         self.check(web, [(0, row), (room, [use(0, -1)] + row)], room, [use(1), use(1, -1)])
 
+    def test_many_long_lines_between_rooms(self):
+        web = (2, ((0, 1, 1, 1), (0, 1, 1, 1)))
+        there = [("cross", 0, 1), ("cross", 1, -1)] * 600 + [("cross", 0, 1)]
+        back = [("cross", 1, -1), ("cross", 0, 1)] * 600 + [("cross", 1, -1)]
+        short = [("cross", 0, 1), ("cross", 1, -1)] * 10 + [("cross", 0, 1)]
+        lines = [(0, there), (1, back), (0, short)]
+        for first, second in ([use(0), use(1)], [use(2), use(0, -1)], [use(2), use(1)], [use(0), use(2, -1)]):
+            for ahead in ([], [("cross", 0, 1), ("cross", 1, -1)]):
+                self.check(web, lines, 0, ahead + [first, second] * 300)
+            self.check(web, lines, 1, [("cross", 1, -1)] + [first, second] * 300)
+            self.check(web, lines, 1, [second, first] * 300 + [second])
+
+    def test_many_long_lines_in_a_ring_of_rooms(self):
+        web = (3, ((0, 1, 1, 1), (1, 2, 1, 1), (2, 0, 1, 1)) * 2)
+        there = [("cross", i % 3, 1) for i in range(1202)]
+        back = [("cross", 3 + (1201 - i) % 3, -1) for i in range(1202)]
+        lines = [(0, there), (2, back)]
+        self.check(web, lines, 0, [use(0), use(1)] * 300)
+        self.check(web, lines, 2, [use(1), use(0)] * 300 + [use(1)])
+        self.check(web, lines, 2, [("cross", 2, 1)] + [use(0), use(1)] * 300)
+
     def test_many_lines(self):
         chance = random.Random(702)
         for _ in range(40):

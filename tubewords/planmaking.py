@@ -44,7 +44,7 @@ def packed(entries):
     """The entries without those that go there and at once back, in a list."""
     kept = []
     for entry in entries:
-        if kept and [entry] == entries_back(kept[-1:]):
+        if [entry] == entries_back(kept[-1:]):
             kept.pop()
         else:
             kept.append(entry)
