@@ -36,6 +36,12 @@ MANY_AND_GREAT = (5, ((3, 1, 512, 729), (4, 3, 96, 997), (3, 4, 991, 576), (1, 1
                       (0, 2, 729, 997), (0, 2, 1, 972)))
 
 
+# In these the told rules come of pairs of rules that themselves come of pairs.
+LATE = ((1, ((0, 0, 192, 16), (0, 0, 900, 81), (0, 0, 16, 40))), (1, ((0, 0, 5, 200), (0, 0, 50, 36))),
+        (1, ((0, 0, 6, 40), (0, 0, -50, 336), (0, 0, 270, 784))), (1, ((0, 0, 120, 9), (0, 0, 800, 160))),
+        (1, ((0, 0, 5, 486), (0, 0, -2, 189), (0, 0, 100, 175))))
+
+
 def used_by_words(web, rule, turn):
     """The turn to which a rule leads, None if it is not used there."""
     v, m, w, l = rule
@@ -93,7 +99,7 @@ def some_web(chance, most=40):
 
 def some_webs(seed, many):
     chance = random.Random(seed)
-    return list(ALL_WEBS) + [SQUARES, FLIP, ONES, FOUR_PRIMES] + [some_web(chance) for _ in range(many)]
+    return list(ALL_WEBS + LATE) + [SQUARES, FLIP, ONES, FOUR_PRIMES] + [some_web(chance) for _ in range(many)]
 
 
 class ToldRulesTest(unittest.TestCase):
