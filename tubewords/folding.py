@@ -8,7 +8,7 @@ lot as turns and the opposite of W joined. All words are in the span, and are to
 from math import lcm
 
 from tubewords.errors import NotInOne, TooMany
-from tubewords.links import carried_lot, links_by_cell, read_along, steps_apart, way_of
+from tubewords.links import carried_lot, links_by_cell, read_back, steps_apart, way_of
 from tubewords.integers import bezout, divides, split_over
 from tubewords.plainwalks import plain_of_any_size
 from tubewords.spanrows import SpanRows
@@ -186,17 +186,12 @@ class Folding:
         """The number of a row for a walk, None if it is not in the span."""
         if walk[0] != self.rooms[0]:
             return None
-        along = read_along(self.web, self.links_left(), self.lots, plain_of_any_size(self.web, walk))
-        if along is None:
+        found = read_back(self.web, self.links_left(), self.lots, plain_of_any_size(self.web, walk))
+        if found is None:
             return None
-        # A walk that is not closed does not end at a cell of the room of cell 0.
-        rows, (cell, at_hand) = along
-        if cell != 0 or not divides(self.lots[0], at_hand):
-            return None
+        rows, last = found
         word = self.span_rows.idle()
         for begin, number, link, times in rows:
             word = self.span_rows.joined(word, self.span_rows.power(self.lot_words[begin], times))
             word = self.span_rows.joined(word, self.word_of(number, link))
-        if at_hand != 0:
-            word = self.span_rows.joined(word, self.span_rows.power(self.lot_words[0], at_hand // self.lots[0]))
-        return word
+        return self.span_rows.joined(word, self.span_rows.power(self.lot_words[0], last))

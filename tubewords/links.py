@@ -2,7 +2,7 @@
 
 from math import gcd, lcm
 
-from tubewords.integers import split_over
+from tubewords.integers import divides, split_over
 from tubewords.webs import ends_of
 
 
@@ -63,6 +63,23 @@ def read_along(web, by_cell, lots, plain):
         cell = link[4]
         at_hand = ends_of(web, tie, side)[3] * many - link[5] + following
     return (rows, (cell, at_hand))
+
+
+def read_back(web, by_cell, lots, plain):
+    """Reads a plain walk that begins in the room of cell 0, and looks whether it comes back to cell 0 as [45] says.
+
+    Returns the rows of read_along, and how many times its lot is made at cell 0 at the end; None if it is not read.
+    """
+    along = read_along(web, by_cell, lots, plain)
+    if along is None:
+        return None
+    # A walk that is not closed does not end at a cell of the room of cell 0.
+    rows, (cell, at_hand) = along
+    if cell != 0 or not divides(lots[0], at_hand):
+        return None
+    if at_hand == 0:
+        return (rows, 0)
+    return (rows, at_hand // lots[0])
 
 
 def link_for(web, found, lot, way, at_hand):

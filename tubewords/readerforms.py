@@ -2,19 +2,37 @@
 
 from tubewords.links import carried_lot, links_of_reader, steps_apart, turned_link, way_of
 from tubewords.integers import split_over
+from tubewords.numbering import number_without
 from tubewords.webs import ends_of, ways_out
 
 
-def has_needless_cell(web, reader):
-    """Whether a cell of a folded reader is needless."""
+def needless_cell(web, reader):
+    """The first needless cell of a folded reader, None if there is none."""
     cells, _ = reader
     for cell, found in links_of_reader(reader).items():
         # A link that leads from the cell to itself is told twice.
         if cell != 0 and len(found) == 1:
             back = turned_link(found[0][1])
             if cells[cell][1] == abs(carried_lot(web, way_of(back), cells[back[0]][1])):
-                return True
-    return False
+                return cell
+    return None
+
+
+def without_needless_cells(web, reader):
+    """A folded reader with the same span and no needless cell."""
+    cell = needless_cell(web, reader)
+    while cell is not None:
+        reader = without_cell(reader, cell)
+        cell = needless_cell(web, reader)
+    return reader
+
+
+def without_cell(reader, gone):
+    """A reader without one of its cells and the links at it."""
+    cells, links = reader
+    left = [link for link in links if gone not in (link[0], link[4])]
+    placed = [(number_without(link[0], gone),) + link[1:4] + (number_without(link[4], gone), link[5]) for link in left]
+    return (cells[:gone] + cells[gone + 1:], tuple(placed))
 
 
 class PlainForm:

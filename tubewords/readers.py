@@ -3,10 +3,10 @@
 from tubewords.errors import TooMany
 from tubewords.folding import MOST_GIVEN, Folding, check_given
 from tubewords.kinds import is_integer, is_integer_from, is_tuple_of
-from tubewords.links import carried_lot, links_of_reader, read_along, steps_apart, way_of
+from tubewords.links import carried_lot, links_of_reader, read_back, steps_apart, way_of
 from tubewords.integers import divides
 from tubewords.plainwalks import plain_of_any_size, plain_walk
-from tubewords.readerforms import has_needless_cell, plain_form
+from tubewords.readerforms import needless_cell, plain_form
 from tubewords.sources import brought_along
 from tubewords.walks import joined_of_any_size, opposite_walk
 from tubewords.webs import ends_of, is_crossing, is_room
@@ -93,7 +93,7 @@ def are_links_apart(web, reader, by_cell):
 
 def is_plain_reader(web, reader):
     """Whether a reader is folded and plain."""
-    if not is_folded(web, reader) or has_needless_cell(web, reader):
+    if not is_folded(web, reader) or needless_cell(web, reader) is not None:
         return False
     return plain_form(web, reader) == reader
 
@@ -104,12 +104,7 @@ def reads_walk(web, reader, walk):
     if walk[0] != cells[0][0]:
         return False
     lots = [lot for _, lot in cells]
-    along = read_along(web, links_of_reader(reader), lots, plain_of_any_size(web, walk))
-    if along is None:
-        return False
-    # A walk that is not closed does not end at a cell of the room of cell 0.
-    cell, at_hand = along[1]
-    return cell == 0 and divides(lots[0], at_hand)
+    return read_back(web, links_of_reader(reader), lots, plain_of_any_size(web, walk)) is not None
 
 
 def reader_walks(web, reader):

@@ -25,10 +25,16 @@ def same_span(web, room, first, second):
 
 def free_rank(web, room, walks):
     """The rank of the span of given walks if it is free, None otherwise."""
-    cells, links = span_reader(web, room, walks)
-    if any([lot != 0 for _, lot in cells]):
+    reader = span_reader(web, room, walks)
+    if not is_free(reader):
         return None
+    cells, links = reader
     return len(links) - len(cells) + 1
+
+
+def is_free(reader):
+    """Whether the span of a plain reader is free."""
+    return all([lot == 0 for _, lot in reader[0]])
 
 
 def span_paper(web, room, walks, walk):
