@@ -3,7 +3,7 @@ import importlib
 import inspect
 import unittest
 
-from tests.samples import BRIDGE, EVEN, TURNING
+from tests.samples import BRIDGE, EVEN, KLEIN, TURNING
 
 WALK = (0, 5, ((0, 1, 1), (0, -1, 4)))
 GOING = (0, 0, ((0, 1, 1), (0, 1, 0)))
@@ -12,6 +12,9 @@ BASE = (0, ())
 PLACE = (0, ((1, 0, 1),))
 GIVEN = ((0, 2, ()), GOING)
 READER = (((0, 2),), ((0, 0, 1, 0, 0, 1),))
+INDEXED = ((0, 2, ()), (0, 0, ((0, 1, 0),)), (0, 1, ((0, 1, 1),)))
+TABLE = (((1, 0),), ((1, 0),))
+CHANGES = (("turn over", 1), ("reverse", 0), ("draw out", 0, 2, ((0, 1),)))
 PLAN = ((0, (("cross", 0, 1),)), (0, (("line", 0, -1, 2),)))
 
 # Each function of the interface with arguments that it takes.
@@ -162,6 +165,39 @@ CALLS = {
         "span_paper": (EVEN, 0, GIVEN, GOING),
         "shows_in_span": (EVEN, 0, GIVEN, GOING, (("given", 1),)),
     },
+    "ownwebs": {
+        "own_web": (EVEN, 0, GIVEN),
+        "walk_out": (EVEN, 0, GIVEN, (0, 3, ((0, 1, 2),))),
+        "walk_in": (EVEN, 0, GIVEN, GOING),
+    },
+    "spantables": {
+        "span_table": (EVEN, 0, INDEXED),
+        "is_span_table": (EVEN, 0, TABLE),
+        "table_reader": (EVEN, 0, TABLE),
+    },
+    "changes": {
+        "can_change": (BRIDGE, CHANGES[0]),
+        "changed_web": (BRIDGE, CHANGES),
+        "draws_in": (BRIDGE,),
+    },
+    "carrying": {
+        "carried_walk": (BRIDGE, CHANGES, (0, 1, ((0, 1, 2),))),
+        "taken_back": (BRIDGE, CHANGES, (0, 1, ((0, -1, 2),))),
+        "carried_room": (BRIDGE, CHANGES, 1),
+    },
+    "counts": {
+        "turn_counts": (TURNING, WALK),
+        "tie_counts": (TURNING, WALK),
+        "exchange_rows": (BRIDGE,),
+        "rest_rows": (BRIDGE,),
+        "rest_of": (BRIDGE, (7, -5)),
+        "have_like_counts": (TURNING, WALK, (0, 3, ())),
+        "exchange_multiples": (TURNING, WALK, (0, 3, ())),
+    },
+    "divisors": {
+        "free_number": (EVEN, 0),
+        "divisors_at": (KLEIN, 0),
+    },
 }
 
 
@@ -198,7 +234,7 @@ class ConventionsTest(unittest.TestCase):
                      "keeps_place", "is_turned", "goes_on", "is_plan", "comes_before", "are_complete", "are_carried",
                      "shows_carrying", "is_level", "is_upright", "rests_on_line", "keeps_line", "do_commute",
                      "has_lone_roots", "is_reader", "is_folded", "is_plain_reader", "reads_walk", "in_span",
-                     "same_span", "shows_in_span"):
+                     "same_span", "shows_in_span", "is_span_table", "can_change", "have_like_counts"):
             for module, other, function, arguments in functions():
                 if other == name:
                     self.assertIsInstance(function(*arguments), bool)
