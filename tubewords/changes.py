@@ -99,13 +99,7 @@ def turned_over(web, room):
     """A web in which a room is turned over."""
     if not is_room(web, room):
         return None
-    ties = []
-    for tie in web[1]:
-        for which in (0, 1):
-            if tie[which] == room:
-                tie = with_end(tie, which, room, -tie[2 + which])
-        ties.append(tie)
-    return (web[0], tuple(ties))
+    return (web[0], tuple(ends_moved(web[1], room, room, -1)))
 
 
 def flipped(web, number):
@@ -145,13 +139,20 @@ def drawn_in(web, number, side):
     v, w, ahead, behind = ends_of(web, number, side)
     if v == w or abs(ahead) != 1:
         return None
-    ties = []
-    for tie in web[1][:number] + web[1][number + 1:]:
+    moved = ends_moved(web[1][:number] + web[1][number + 1:], v, w, behind * ahead)
+    placed = [(number_without(first, v), number_without(second, v), p, q) for first, second, p, q in moved]
+    return (web[0] - 1, tuple(placed))
+
+
+def ends_moved(ties, room, other, times):
+    """Ties whose ends at a room are moved to another one, or left there, so many times as great, in a list."""
+    moved = []
+    for tie in ties:
         for which in (0, 1):
-            if tie[which] == v:
-                tie = with_end(tie, which, w, tie[2 + which] * behind * ahead)
-        ties.append((number_without(tie[0], v), number_without(tie[1], v)) + tie[2:])
-    return (web[0] - 1, tuple(ties))
+            if tie[which] == room:
+                tie = with_end(tie, which, other, tie[2 + which] * times)
+        moved.append(tie)
+    return moved
 
 
 def drawn_out(web, room, end, pairs):

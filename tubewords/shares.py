@@ -2,6 +2,7 @@
 
 from math import gcd
 
+from tubewords.quotients import fraction_of
 from tubewords.walks import crossings_of
 from tubewords.webs import ends_of
 
@@ -14,14 +15,6 @@ def share_of(web, walk):
         above *= behind
         below *= ahead
     return fraction_of(above, below)
-
-
-def fraction_of(above, below):
-    """The fraction of one integer over another one that is not 0, in lowest terms."""
-    common = gcd(above, below)
-    if below < 0:
-        common = -common
-    return (above // common, below // common)
 
 
 def toll_of(web, walk):

@@ -39,7 +39,8 @@ def full_reader(web, reader):
     cells, links = list(reader[0]), list(reader[1])
     at = 0
     while at < len(cells):
-        for way, near in nears_missing(web, cells[at], told_at(links, at)):
+        missing = nears_missing(web, cells[at], told_at(links, at))
+        for way, near in missing:
             links.append((at, way[0], way[1], near, len(cells), 0))
             cells.append((ends_of(web, way[0], way[1])[1], abs(carried_lot(web, way, cells[at][1]))))
         at += 1
