@@ -198,6 +198,39 @@ CALLS = {
         "free_number": (EVEN, 0),
         "divisors_at": (KLEIN, 0),
     },
+    "pictures": {
+        "picture_of": (TURNING, ((1, 2),), WALK),
+        "led_by": (((2, 3), (1, 2)), (-5, 7)),
+        "map_after": (((2, 3), (1, 2)), ((-1, 1), (0, 1))),
+        "map_back": (((2, 3), (1, 2)),),
+        "fixed_place": (((2, 3), (1, 2)),),
+        "is_pictured": (BRIDGE, 1),
+    },
+    "rests": {
+        "is_modulus": (TURNING, 35),
+        "rest_map": (TURNING, 35, (-4,), WALK),
+        "rest_table": (TURNING, 35, (-4,), WALK),
+    },
+    "texts": {
+        "web_text": (BRIDGE,),
+        "walk_text": (WALK,),
+        "read_web": ("2 rooms; 0 1 2 -3",),
+        "read_walk": (BRIDGE, "0: 3 t0 -2 t0' 5"),
+    },
+    "shown": {
+        "answer_to": (EVEN, ("in span", 0, GIVEN, GOING)),
+        "certified": (EVEN, ("same span", 0, GIVEN, (OTHER,))),
+        "is_certified": (EVEN, ("in span", 0, GIVEN, GOING), True, (("given", 1),)),
+    },
+}
+
+
+# Each class of the interface with its methods and operators.
+CLASSES = {
+    "keeper": ("Keeper", ("web_now", "names_now", "walk_of_name", "keep", "forget", "add_room", "add_tie", "cut_tie", "undo", "redo",
+                          "equal_names", "plain_of_name", "joined_names", "groups", "tried", "tried_within", "__contains__",
+                          "__iter__", "__eq__", "__enter__", "__exit__")),
+    "desk": ("Desk", ("line",)),
 }
 
 
@@ -213,6 +246,14 @@ class ConventionsTest(unittest.TestCase):
             with self.subTest(name=name):
                 self.assertTrue(inspect.isfunction(function))
                 self.assertEqual((function.__module__, function.__name__), ("tubewords." + module, name))
+
+    def test_classes_are_defined_in_their_files_and_methods_in_the_classes(self):
+        for module, (name, methods) in CLASSES.items():
+            told = getattr(importlib.import_module("tubewords." + module), name)
+            self.assertTrue(inspect.isclass(told))
+            self.assertEqual((told.__module__, told.__name__), ("tubewords." + module, name))
+            for method in methods:
+                self.assertIn(method, vars(told))
 
     def test_arguments_are_passed_by_position(self):
         for module, name, function, arguments in functions():
@@ -234,7 +275,8 @@ class ConventionsTest(unittest.TestCase):
                      "keeps_place", "is_turned", "goes_on", "is_plan", "comes_before", "are_complete", "are_carried",
                      "shows_carrying", "is_level", "is_upright", "rests_on_line", "keeps_line", "do_commute",
                      "has_lone_roots", "is_reader", "is_folded", "is_plain_reader", "reads_walk", "in_span",
-                     "same_span", "shows_in_span", "is_span_table", "can_change", "have_like_counts"):
+                     "same_span", "shows_in_span", "is_span_table", "can_change", "have_like_counts",
+                     "is_pictured", "is_modulus", "answer_to", "is_certified"):
             for module, other, function, arguments in functions():
                 if other == name:
                     self.assertIsInstance(function(*arguments), bool)
