@@ -227,25 +227,25 @@ class ErrorsTest(DeskCase):
 
     def test_wrong_lines_change_nothing(self):
         chance = random.Random(3101)
-        desk = Desk(TRIANGLE)
         parts = ["keep", "forget", "plain", "equal", "join", "tie", "cut", "room", "web", "groups", "undo", "redo", "a", "b", "c1", "Z",
                  "=", "0: 1", "1: t1 2 t3", "0 1 2 3", "2 2 -1 5", "1", "0", ";", "", "x"]
+        often = ("keep a = 0: 1", "keep a = 0: 1", "keep b = 1: t3", "keep b = 1: t3", "forget a", "undo", "redo", "equal a b",
+                 "equal a a", "groups", "join b b", "cut 3", "cut 0", "tie 1 1 2 2", "plain b")
         asked = ("plain", "equal", "join", "web", "groups")
         seen = {}
-        for _ in range(3000):
-            line = " ".join([chance.choice(parts) for _ in range(chance.randint(1, 4))])
-            if chance.random() < 0.4:
-                line = chance.choice(("keep a = 0: 1", "keep b = 1: t3", "forget a", "forget b", "undo", "redo", "equal a b", "equal a a",
-                                      "groups", "join b b", "cut 3", "cut 0", "tie 1 1 2 2", "plain b"))
-            before = history(desk.keeper)
-            answer = desk.line(line)
-            self.assertIsInstance(answer, str)
-            changed = history(desk.keeper) != before
-            if answer == "what" or answer.startswith("error") or line.split(" ")[0] in asked:
-                self.assertFalse(changed, line)
-            else:
-                self.assertTrue(changed, line)
-            seen[answer] = seen.get(answer, 0) + 1
+        for _ in range(100):
+            desk = Desk(TRIANGLE)
+            for _ in range(20):
+                line = " ".join([chance.choice(parts) for _ in range(chance.randint(1, 4))])
+                if chance.random() < 0.6:
+                    line = chance.choice(often)
+                before = history(desk.keeper)
+                answer = desk.line(line)
+                self.assertIsInstance(answer, str)
+                changed = history(desk.keeper) != before
+                wrong = answer == "what" or answer.startswith("error") or line.split(" ")[0] in asked
+                self.assertIs(changed, not wrong, line)
+                seen[answer] = seen.get(answer, 0) + 1
         for answer in ("ok", "what", "yes", "no", "error text", "error taken", "error name", "error use", "error undo", "error redo"):
             self.assertGreater(seen.get(answer, 0), 0, answer)
 
