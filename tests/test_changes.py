@@ -142,6 +142,24 @@ class OneChangeTest(ChangeCase):
                         ("flip", True), ("flip", False), ("reverse", False), ("turn over", False), ("turn over", None),
                         ("slide", (), (), (), ()), ("draw in", (), ()), ("draw out", (), (), ()))
 
+    def test_right_forms_with_other_words(self):
+        for word in ("Slide", "draw in", "draw out", "flip", "", None, 0, ("slide",)):
+            self.cannot(CHAIN, (word, 1, 0, 0, -1))
+        for word in ("Draw in", "drawin", "slide", "draw out", "flip", None, 1):
+            self.cannot((2, ((0, 1, 1, 1),)), (word, 0, 1))
+        for word in ("Draw out", "draw in", "slide", "drawout", None, 1):
+            self.cannot(STILL, (word, 0, 1, ()))
+        self.cannot(CHAIN, (None, 0), (0, 0), ("turn  over", 0), ("turn over", 0, 1, 1), ("flip", 0, 0), ("reverse", 0, 0))
+
+    def test_numbers_that_would_name_ends(self):
+        # `which` is 0 or 1: it counts neither from the end nor on to the ends of the tie.
+        self.cannot((2, ((1, 0, 1, 1), (0, 1, 5, 1))), ("slide", 1, -1, 0, 1))
+        self.cannot((3, ((2, 0, 1, 1), (0, 1, 2, 7))), ("slide", 1, 2, 0, 1))
+        self.cannot((2, ((0, 1, 6, 1),)), ("draw out", 1, 1, ((0, -1),)))
+        self.cannot((2, ((0, 1, 1, 6),)), ("draw out", 1, 1, ((0, 2),)))
+        self.cannot((2, ((0, 1, 1, 6),)), ("draw out", 1, "3", ((0, 1),)), ("draw out", 1, None, ((0, 1),)),
+                    ("draw out", "1", 3, ((0, 1),)), ("draw out", 1, 3, (None,)), ("draw out", 1, (), ((0, 1),)))
+
     def test_by_words(self):
         chance = random.Random(2201)
         for web in ALL_WEBS + tuple([some_web(chance) for _ in range(60)]):

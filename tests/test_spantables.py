@@ -183,6 +183,8 @@ class IsSpanTableTest(unittest.TestCase):
         for order in ((0, 0), (0, 2), (1, 2), (-1, 0), (0, -1), [0, 1], (0,), (0, 1, 2), (), 0, None, "01", (0, "1"), (0, None),
                       ((0,), 1), (0, (1,)), ("0", "1"), (True, False), (False, True), (0, True), (False, 1)):
             self.wrong(EVEN, 0, ((order,), ((0, 1),)), (((1, 0),), (order,)))
+        for order in ((-1, 0), (1, -2), (2, 1), (1, 1), (2, 0), (1, 0, 1), (1, 2), (-2, -1), (True, 0), (1, False)):
+            self.wrong(STILL, 0, ((order,), ()))
 
     def test_outside_of_the_piece(self):
         web = (3, ((0, 0, 2, 2), (1, 1, 1, 1)))

@@ -3,7 +3,7 @@
 from tubewords.changes import ends_moved
 from tubewords.quotients import fraction_of, negative_of, product_of, quotient_of, sum_of
 from tubewords.sources import ties_of_piece
-from tubewords.webs import ends_of, piece_of
+from tubewords.webs import ends_of
 
 ONE = (1, 1)
 ZERO = (0, 1)
@@ -60,16 +60,13 @@ def fixed_place(affine):
 
 def is_pictured(web, room):
     """Whether a room is pictured."""
-    many = len(piece_of(web, room))
     ties = [web[1][tie] for tie in ties_of_piece(web, room)]
     number = first_to_draw(ties)
     while number is not None:
         ties = drawn_along(ties, number)
-        many -= 1
         number = first_to_draw(ties)
-    if many > 1 or len(ties) > 1:
-        return False
-    return all([has_unit_end(tie) for tie in ties])
+    # If more than one room is left, a tie without an end 1 or -1 leads from one to another.
+    return len(ties) <= 1 and all([has_unit_end(tie) for tie in ties])
 
 
 def has_unit_end(tie):

@@ -69,7 +69,7 @@ def are_digits(text):
 
 def crossing_of(token):
     """The pair (tie, side) of a token that is a crossing whose tie is written in one digit, None for another one."""
-    if token[0] != "t" or token[1] not in DIGITS:
+    if token[0] != "t":
         return None
     if len(token) == 2:
         return (int(token[1]), 1)
