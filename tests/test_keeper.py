@@ -472,6 +472,18 @@ class AskedTest(KeeperCase):
         keeper.forget("d")
         self.assertEqual(keeper.groups(), (("a", "e"), ("c",), ("b",), ("f",)))
 
+    def test_groups_of_the_most_names(self):
+        keeper = Keeper(EVEN)
+        # Names that come back to a group after others have begun theirs.
+        for number in range(20):
+            turns = number % 3
+            keeper.keep(f"n{number}", (0, turns + 2, ((0, 1, 0),)) if number % 2 else (0, turns, ((0, 1, 2),)))
+        before = history(keeper)
+        expected = tuple(tuple(f"n{number}" for number in range(first, 20, 3)) for first in (0, 1, 2))
+        self.assertEqual(keeper.groups(), expected)
+        self.assertEqual(keeper.groups(), expected)
+        self.assertEqual(history(keeper), before)
+
     def test_groups_by_words(self):
         chance = random.Random(2903)
         for web in ALL_WEBS * 3:

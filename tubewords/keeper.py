@@ -136,8 +136,9 @@ class Keeper:
         """The names whose walks are equal, together."""
         found = {}
         for name, walk in self.walks.items():
-            found.setdefault(plain_of_any_size(self.web, walk), []).append(name)
-        return tuple([tuple(names) for names in found.values()])
+            plain = plain_of_any_size(self.web, walk)
+            found[plain] = found.get(plain, ()) + (name,)
+        return tuple(found.values())
 
     def tried(self, ties):
         """The groups with some ties added, which are taken away again."""

@@ -55,7 +55,9 @@ def rules_by_room(rules):
     """The rules in lists by the rooms at which they can be used, each list in the order of the rules."""
     by_room = {}
     for rule in rules:
-        by_room.setdefault(rule[0], []).append(rule)
+        if rule[0] not in by_room:
+            by_room[rule[0]] = []
+        by_room[rule[0]].append(rule)
     return by_room
 
 
